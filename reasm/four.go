@@ -1,6 +1,9 @@
 package reasm
 
-import "weir/api"
+import (
+	"weir/api"
+	"weir/own"
+)
 
 const most4 = api.MaxBytes - 20 // bytes of data of a datagram of IPv4
 
@@ -23,7 +26,7 @@ func (t *Table) take4(h api.Ip4) (*context, api.Errno) {
 		return nil, e
 	}
 	if h.Off == 0 && !c.late.First {
-		c.late.First, c.late.H4 = true, copy4(h)
+		c.late.First, c.late.H4 = true, own.Four(h)
 	}
 	return c, api.OK
 }

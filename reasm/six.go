@@ -3,6 +3,7 @@ package reasm
 import (
 	"weir/api"
 	"weir/ip6"
+	"weir/own"
 )
 
 const most6 = api.MaxBytes - 40 // bytes behind the Fragment header of a datagram of IPv6, once that header is gone
@@ -29,7 +30,7 @@ func (t *Table) take6(h api.Ip6) (*context, api.Errno) {
 		return nil, e
 	}
 	if h.Frag.Off == 0 {
-		c.late.First, c.late.H6 = true, copy6(h)
+		c.late.First, c.late.H6 = true, own.Six(h)
 	}
 	return c, api.OK
 }
@@ -42,7 +43,7 @@ func (c *context) joined6() (api.Ip6, api.Errno) {
 
 // alone is what comes of a fragment that has no other beside it.
 func alone(h api.Ip6) (api.Ip6, int, int, api.Errno) {
-	head := copy6(h)
+	head := own.Six(h)
 	whole, e := join(head, head.Data)
 	if e != api.OK {
 		return api.Ip6{}, 0, 0, e
