@@ -46,3 +46,25 @@ func TestSix(t *testing.T) {
 		t.Error("Six of a zero value is none")
 	}
 }
+
+// freshPacket has every list; no packet that may be has all of them.
+func freshPacket() api.Packet {
+	return api.Packet{
+		Src: api.Mac{2}, Tags: []api.Tag{{TPID: 0x88a8, VID: 1}, {TPID: 0x8100, VID: 2}}, Kind: 7, Arp: api.Arp{Op: 1}, Ip4: fresh4(), Ip6: fresh6(), L4: 7,
+		Icmp: api.Icmp{V: 4, Data: []byte{1, 2}}, Udp: api.Udp{Sport: 1, Data: []byte{3, 4}},
+		Tcp: api.Tcp{Sport: 2, Opts: []api.Opt{{Kind: 2, Data: []byte{5, 6}}, {Kind: 77}}, Data: []byte{7, 8}},
+	}
+}
+
+func TestPacket(t *testing.T) {
+	p := freshPacket()
+	y := own.Packet(p)
+	p.Tags[1].VID, p.Ip4.Data[0], p.Ip6.Data[1], p.Ip4.Opts[0].Data[0], p.Ip6.Exts[1].Data[0] = 9, 9, 9, 9, 9
+	p.Icmp.Data[1], p.Udp.Data[0], p.Tcp.Data[1], p.Tcp.Opts[1].Kind, p.Tcp.Opts[0].Data[1] = 9, 9, 9, 9, 9
+	if text(y) != text(freshPacket()) {
+		t.Errorf("Packet(p) = %+v", y)
+	}
+	if text(own.Packet(api.Packet{})) != text(api.Packet{}) {
+		t.Error("Packet of a zero value is none")
+	}
+}
